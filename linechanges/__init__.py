@@ -1,0 +1,1 @@
+"""Forward derivatives over line code: see linechanges.code.answers."""
