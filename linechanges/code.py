@@ -9,9 +9,17 @@ CLEAR = 3
 VALUE = 4
 VALUES = 5
 CHANGE = 6
+CHANGES = 7
+GRADIENT = 8
+TABLE = 9
+MOVE = 10
+QUOTIENT = 11
+SERIES = 12
+HANGS = 13
 
 # By a call's number: how many whole numbers it has, and how many rows behind them.
-SHAPES = ((1, 1), (0, 1), (0, 1), (0, 0), (1, 0), (0, 0), (2, 0), (1, 0))
+SHAPES = ((1, 1), (0, 1), (0, 1), (0, 0), (1, 0), (0, 0), (2, 0), (1, 0),
+          (1, 0), (0, 1), (3, 0), (4, 0), (3, 0), (1, 0), (0, 0))
 
 
 def read_call(calls, place):
@@ -41,8 +49,22 @@ def answer(holder, number, given):
         return holder.tell_values()
     if number == CHANGE:
         return holder.tell_change(given[0], given[1])
-    # Only changes is left: read_call has no shape for a number beyond it.
-    return holder.tell_changes(given[0])
+    if number == CHANGES:
+        return holder.tell_changes(given[0])
+    if number == GRADIENT:
+        return holder.tell_gradient(given[0])
+    if number == TABLE:
+        return holder.tell_table(given[0])
+    if number == MOVE:
+        return holder.move(given[0], given[1], given[2])
+    if number == QUOTIENT:
+        return holder.tell_quotient(given[0], given[1], given[2], given[3])
+    if number == SERIES:
+        return holder.tell_series(given[0], given[1], given[2])
+    if number == HANGS:
+        return holder.tell_hangs(given[0])
+    # Only cost is left: read_call has no shape for a number beyond it.
+    return holder.tell_cost()
 
 
 def answers(calls):

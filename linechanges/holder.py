@@ -1,9 +1,10 @@
 """The object that the calls are made on. Each call's method gives back the list of what it answers."""
 
-from linechanges.along import changes_along
 from linechanges.lines import all_find_what_they_use, read_lines
-from linechanges.ratio import read_fractions, weight
-from linechanges.run import run_lines
+from linechanges.ratio import ONE, ZERO, difference, in_lowest_terms, quotient, read_fractions, weight
+from linechanges.run import moved, run_lines
+from linechanges.series import Series
+from linechanges.uses import cost_of_direction, how_many_operations, inputs_behind
 
 OUT_OF_RANGE = -1
 NOT_OF_THE_FORM = -2
@@ -16,15 +17,24 @@ TOO_MANY = -7
 MOST_INPUTS = 12
 MOST_LINES = 80
 MOST_DIRECTIONS = 6
-MOST_WEIGHT_TOLD = 4000
+MOST_LINES_OF_TABLE = 12
+MOST_COEFFICIENTS = 8
+MOST_WEIGHT = 4000
+
+
+def has_heavy(fractions):
+    for fraction in fractions:
+        if weight(fraction) > MOST_WEIGHT:
+            return True
+    return False
 
 
 def told(fractions):
     """How many, then two numbers for each; or the refusal where one of them is too heavy to be told."""
+    if has_heavy(fractions):
+        return [TOO_HEAVY]
     answer = [len(fractions)]
     for fraction in fractions:
-        if weight(fraction) > MOST_WEIGHT_TOLD:
-            return [TOO_HEAVY]
         answer.append(fraction[0])
         answer.append(fraction[1])
     return answer
@@ -43,14 +53,18 @@ class Holder:
         self.point = None
         self.results = []
         self.fault = None
-        self.known_changes = {}
+        self.forget_series()
 
     def stand_at(self, point):
         ran = run_lines(self.lines, point)
         self.point = point
         self.results = ran[0]
         self.fault = ran[1]
-        self.known_changes = {}
+        self.forget_series()
+
+    def forget_series(self):
+        self.known_along = {}
+        self.known_partial = {}
 
     def has_line(self, i):
         return 0 <= i and i < len(self.lines)
@@ -66,11 +80,21 @@ class Holder:
             return FAULT
         return 0
 
-    def changes_of_all(self, d):
-        # Many calls may ask along one direction at one point: the lines are gone through only once.
-        if d not in self.known_changes:
-            self.known_changes[d] = changes_along(self.lines, self.results, self.directions[d])
-        return self.known_changes[d]
+    def along(self, d):
+        # Many calls may ask along one direction at one point: what was reckoned once is kept until either changes.
+        if d not in self.known_along:
+            self.known_along[d] = Series(self.lines, self.results, self.directions[d])
+        return self.known_along[d]
+
+    def along_input(self, k):
+        if k not in self.known_partial:
+            direction = [ZERO] * self.inputs
+            direction[k] = ONE
+            self.known_partial[k] = Series(self.lines, self.results, direction)
+        return self.known_partial[k]
+
+    def partials(self, i):
+        return [self.along_input(k).change_of(i) for k in range(self.inputs)]
 
     def take_code(self, inputs, numbers):
         if inputs < 0 or inputs > MOST_INPUTS:
@@ -93,6 +117,9 @@ class Holder:
         if point is None:
             return [NOT_OF_THE_FORM]
         self.stand_at(point)
+        return self.tell_fault()
+
+    def tell_fault(self):
         if self.fault is None:
             return [0]
         return [1, self.fault[0], self.fault[1]]
@@ -109,7 +136,7 @@ class Holder:
     def drop_directions(self):
         how_many = len(self.directions)
         self.directions = []
-        self.known_changes = {}
+        self.known_along = {}
         return [how_many]
 
     def tell_value(self, i):
@@ -132,7 +159,7 @@ class Holder:
         refusal = self.run_refusal()
         if refusal < 0:
             return [refusal]
-        return told([self.changes_of_all(d)[i]])
+        return told([self.along(d).change_of(i)])
 
     def tell_changes(self, d):
         if not self.has_direction(d):
@@ -140,4 +167,65 @@ class Holder:
         refusal = self.run_refusal()
         if refusal < 0:
             return [refusal]
-        return told(self.changes_of_all(d))
+        return told([self.along(d).change_of(i) for i in range(len(self.lines))])
+
+    def tell_gradient(self, i):
+        if not self.has_line(i):
+            return [OUT_OF_RANGE]
+        refusal = self.run_refusal()
+        if refusal < 0:
+            return [refusal]
+        return told(self.partials(i))
+
+    def tell_table(self, places):
+        if len(places) > MOST_LINES_OF_TABLE or not all([self.has_line(i) for i in places]):
+            return [NOT_OF_THE_FORM]
+        refusal = self.run_refusal()
+        if refusal < 0:
+            return [refusal]
+        fractions = []
+        for i in places:
+            fractions.extend(self.partials(i))
+        return told(fractions)
+
+    def move(self, d, n, m):
+        if not self.has_direction(d) or m < 1:
+            return [OUT_OF_RANGE]
+        if self.point is None:
+            return [NO_POINT]
+        point = moved(self.point, self.directions[d], in_lowest_terms(n, m))
+        if has_heavy(point):
+            return [TOO_HEAVY]
+        self.stand_at(point)
+        return self.tell_fault()
+
+    def tell_quotient(self, i, d, n, m):
+        if not self.has_line(i) or not self.has_direction(d) or n == 0 or m < 1:
+            return [OUT_OF_RANGE]
+        refusal = self.run_refusal()
+        if refusal < 0:
+            return [refusal]
+        step = in_lowest_terms(n, m)
+        there = run_lines(self.lines, moved(self.point, self.directions[d], step))
+        if there[1] is not None:
+            return [FAULT]
+        slope = quotient(difference(there[0][i], self.results[i]), step)
+        return told([slope, difference(slope, self.along(d).change_of(i))])
+
+    def tell_series(self, i, d, k):
+        if not self.has_line(i) or not self.has_direction(d) or k < 1 or k > MOST_COEFFICIENTS:
+            return [OUT_OF_RANGE]
+        refusal = self.run_refusal()
+        if refusal < 0:
+            return [refusal]
+        return told(self.along(d).first_coefficients(i, k))
+
+    def tell_hangs(self, i):
+        if not self.has_line(i):
+            return [OUT_OF_RANGE]
+        inputs = inputs_behind(self.lines, i)
+        return [len(inputs)] + inputs
+
+    def tell_cost(self):
+        one = cost_of_direction(self.lines)
+        return [how_many_operations(self.lines), one, one * len(self.directions)]

@@ -1,6 +1,7 @@
 """Exact fractions: pairs (numerator, denominator) in lowest terms, the denominator 1 or more."""
 
 ZERO = (0, 1)
+ONE = (1, 1)
 
 
 def common_divisor(a, b):
@@ -43,6 +44,33 @@ def product(x, y):
     first = common_divisor(x[0], y[1])
     second = common_divisor(y[0], x[1])
     return ((x[0] // first) * (y[0] // second), (x[1] // second) * (y[1] // first))
+
+
+def sum_of_products(pairs):
+    there = [pair for pair in pairs if ZERO not in pair]
+    # In a sum of one or two mostly a light fraction meets a heavy one, so that lowest terms at every step cost
+    # little; in a longer one every step would cost as much as lowest terms once, at the end.
+    if len(there) < 3:
+        return sum_by_steps(there)
+    return sum_at_once(there)
+
+
+def sum_by_steps(pairs):
+    result = ZERO
+    for x, y in pairs:
+        result = total(result, product(x, y))
+    return result
+
+
+def sum_at_once(pairs):
+    upper = 0
+    lower = 1
+    for x, y in pairs:
+        other = x[1] * y[1]
+        shared = common_divisor(lower, other)
+        upper = upper * (other // shared) + x[0] * y[0] * (lower // shared)
+        lower = lower * (other // shared)
+    return in_lowest_terms(upper, lower)
 
 
 def inverse(x):

@@ -1,4 +1,4 @@
-"""Running line code at a point: the lines' values, or the first fault."""
+"""Points, and running line code at them: the lines' values, or the first fault."""
 
 from linechanges.lines import CONSTANT, DIFFERENCE, INPUT, OPPOSITE, PRODUCT, QUOTIENT, SUM
 from linechanges.ratio import ZERO, difference, in_lowest_terms, opposite, product, quotient, total, weight
@@ -39,3 +39,8 @@ def run_lines(lines, point):
             return (found, (place, VALUE_TOO_HEAVY))
         found.append(value)
     return (found, None)
+
+
+def moved(point, direction, step):
+    """The point plus step times the direction."""
+    return [total(here, product(step, way)) for here, way in zip(point, direction)]

@@ -41,6 +41,34 @@ def changes(d):
     return [7, d]
 
 
+def gradient(i):
+    return [8, i]
+
+
+def table(*lines):
+    return [9, len(lines)] + list(lines)
+
+
+def move(d, n, m):
+    return [10, d, n, m]
+
+
+def quotient(i, d, n, m):
+    return [11, i, d, n, m]
+
+
+def series(i, d, k):
+    return [12, i, d, k]
+
+
+def hangs(i):
+    return [13, i]
+
+
+def cost():
+    return [14]
+
+
 def ask(*calls):
     """What each call answers, as a list of lists."""
     whole = answers([number for call in calls for number in call])
@@ -71,3 +99,20 @@ def power_of_two_lines(exponent, start=0):
         current = start + len(lines) - 1
         left -= step
     return lines, current
+
+
+def climbing_lines(steps, rest, begin=([INPUT, 0],)):
+    """Lines that begin as told; their last, then it times 2^198 so many times, then that times 2^rest.
+
+    Where the last line of the beginning is 0 all products are 0, and their changes aren't if its change isn't.
+    """
+    lines = list(begin)
+    current = len(lines) - 1
+    large, top = power_of_two_lines(198, len(lines))
+    lines += large
+    lines.append([CONSTANT, 2 ** rest, 1])
+    small = len(lines) - 1
+    for factor in [top] * steps + [small]:
+        lines.append([PRODUCT, current, factor])
+        current = len(lines) - 1
+    return lines

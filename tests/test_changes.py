@@ -3,7 +3,7 @@
 import unittest
 
 from calling import (CONSTANT, DIFFERENCE, INPUT, LARGEST, OPPOSITE, PRODUCT, QUOTIENT, SUM,
-                     ask, change, changes, clear, code, direction, last, point, power_of_two_lines, value)
+                     ask, change, changes, clear, climbing_lines, code, direction, last, point, value)
 
 EVERY_KIND = code(2, [INPUT, 0], [INPUT, 1], [CONSTANT, 5, 7], [SUM, 0, 1], [DIFFERENCE, 0, 1],
                   [PRODUCT, 0, 1], [QUOTIENT, 0, 1], [OPPOSITE, 0])
@@ -73,20 +73,6 @@ class Refusals(unittest.TestCase):
         told = ask(EVERY_KIND, change(0, 0), changes(0), direction(1, 1, 1, 1), change(8, 0), change(0, 1), changes(1),
                    point(1, 1, 0, 1), change(8, 0), change(0, 1), changes(1))
         self.assertEqual(told[1:], [[-1], [-1], [0], [-1], [-1], [-1], [1, 6, 1], [-1], [-1], [-1]])
-
-
-def climbing_lines(steps, rest):
-    """Input 0, then it times 2^198 so many times, times 2^rest: at 0 all products are 0, their changes aren't."""
-    lines = [[INPUT, 0]]
-    large, top = power_of_two_lines(198, 1)
-    lines += large
-    lines.append([CONSTANT, 2 ** rest, 1])
-    small = len(lines) - 1
-    current = 0
-    for factor in [top] * steps + [small]:
-        lines.append([PRODUCT, current, factor])
-        current = len(lines) - 1
-    return lines
 
 
 class Heavy(unittest.TestCase):
